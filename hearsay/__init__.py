@@ -1,0 +1,1 @@
+"""Hearsay: who knows by when that whom has heard."""

@@ -1,0 +1,111 @@
+"""The package keeps to the small part of Python that it is written in: what can be seen of that in its text."""
+
+import ast
+import builtins
+import pathlib
+import re
+import unittest
+
+PACKAGE = pathlib.Path(__file__).resolve().parent.parent / "hearsay"
+
+BUILTINS = set("""len range enumerate zip min max sum abs sorted reversed int str bool list tuple dict set frozenset
+    isinstance ord repr any all divmod Exception ValueError TypeError KeyError IndexError LookupError
+    ZeroDivisionError ArithmeticError OverflowError RuntimeError NotImplementedError AttributeError
+    StopIteration""".split())
+
+METHODS = set("""append clear copy count endswith extend find get index insert isalnum isalpha isdigit islower isspace
+    isupper items join keys ljust lower lstrip partition pop remove replace reverse rfind rjust rpartition rsplit
+    rstrip setdefault split splitlines startswith strip update upper values zfill bit_length""".split())
+
+WORDS = re.compile(r"\b(type|typing|typing_extensions|enum|Enum|IntEnum|StrEnum|Flag|IntFlag|Generic|Protocol|ABC|"
+                   r"ABCMeta|namedtuple|NamedTuple|TypedDict|TYPE_CHECKING|abstractmethod)\b|"
+                   r"dataclass|overload|contextmanager")
+
+NODES = (ast.Module, ast.ImportFrom, ast.alias, ast.FunctionDef, ast.ClassDef, ast.arguments, ast.arg, ast.Assign,
+         ast.AugAssign, ast.If, ast.While, ast.For, ast.Return, ast.Break, ast.Continue, ast.Pass, ast.Raise, ast.Try,
+         ast.ExceptHandler, ast.Expr, ast.Constant, ast.List, ast.Tuple, ast.Dict, ast.Set, ast.BinOp, ast.UnaryOp,
+         ast.BoolOp, ast.Compare, ast.IfExp, ast.Call, ast.keyword, ast.Attribute, ast.Subscript, ast.Slice,
+         ast.ListComp, ast.comprehension, ast.JoinedStr, ast.FormattedValue, ast.Name, ast.Lambda,
+         ast.operator, ast.unaryop, ast.boolop, ast.cmpop, ast.expr_context)
+
+
+def files():
+    return sorted(PACKAGE.glob("*.py"))
+
+
+def nodes():
+    for file in files():
+        for node in ast.walk(ast.parse(file.read_text(encoding="utf-8"))):
+            yield file.name, node
+
+
+def own_methods():
+    return {child.name for name, node in nodes() if isinstance(node, ast.ClassDef)
+            for child in node.body if isinstance(child, ast.FunctionDef)}
+
+
+class Language(unittest.TestCase):
+    def test_only_python_files(self):
+        found = {file.name for file in PACKAGE.iterdir()} - {"__pycache__"}
+        self.assertEqual({file.name for file in files()}, found)
+        self.assertIn("__init__.py", found)
+
+    def test_rows(self):
+        for file in files():
+            text = file.read_text(encoding="utf-8")
+            self.assertRegex(text, r"\A[ -~\n]*\Z", file.name)
+            self.assertIsNone(WORDS.search(text), file.name)
+            self.assertLessEqual(len(text.splitlines()), 400, file.name)
+            self.assertLessEqual(max(len(row) for row in text.splitlines()), 120, file.name)
+
+    def test_kinds_of_statements_and_values(self):
+        for name, node in nodes():
+            self.assertIsInstance(node, NODES, name)
+            self.assertNotIsInstance(node, (ast.Div, ast.MatMult), name)
+            if isinstance(node, ast.Assign):
+                self.assertEqual(1, len(node.targets), (name, node.lineno))
+            if isinstance(node, (ast.For, ast.While)):
+                self.assertEqual([], node.orelse, (name, node.lineno))
+            if isinstance(node, ast.ListComp):
+                self.assertEqual(1, len(node.generators), (name, node.lineno))
+                self.assertLessEqual(len(node.generators[0].ifs), 1, (name, node.lineno))
+
+    def test_functions(self):
+        for name, node in nodes():
+            if isinstance(node, ast.FunctionDef):
+                self.assertLessEqual(node.end_lineno - node.lineno + 1, 40, (name, node.name))
+                self.assertEqual([], node.decorator_list)
+                self.assertEqual((None, None, []), (node.args.vararg, node.args.kwarg, node.args.kwonlyargs))
+
+    def test_imports(self):
+        for name, node in nodes():
+            if isinstance(node, ast.ImportFrom):
+                self.assertEqual(0, node.level, name)
+                self.assertRegex(node.module, r"\Ahearsay\.[a-z_]+\Z")
+                self.assertNotIn("*", [alias.name for alias in node.names])
+
+    def test_names_of_pythons_own(self):
+        others = set(dir(builtins)) - BUILTINS
+        for name, node in nodes():
+            if isinstance(node, ast.Name):
+                self.assertNotIn(node.id, others, (name, node.lineno))
+                if isinstance(node.ctx, ast.Store):
+                    self.assertNotIn(node.id, BUILTINS, (name, node.lineno))
+            if isinstance(node, ast.arg):
+                self.assertNotIn(node.arg, dir(builtins), (name, node.lineno))
+
+    def test_methods(self):
+        allowed = METHODS | own_methods()
+        for name, node in nodes():
+            if isinstance(node, ast.Call) and isinstance(node.func, ast.Attribute):
+                self.assertIn(node.func.attr, allowed, (name, node.lineno))
+
+    def test_plain_names(self):
+        for name, node in nodes():
+            for word in (getattr(node, "id", "a"), getattr(node, "arg", "a"), getattr(node, "attr", "a")):
+                if word is not None and word != "__init__":
+                    self.assertRegex(word, r"\A[A-Za-z][A-Za-z0-9_]*\Z", name)
+
+
+if __name__ == "__main__":
+    unittest.main()
