@@ -44,6 +44,26 @@ def own_methods():
             for child in node.body if isinstance(child, ast.FunctionDef)}
 
 
+def own_values():
+    return {node.attr for name, node in nodes() if isinstance(node, ast.Attribute) and isinstance(node.ctx, ast.Store)}
+
+
+def drawn_from(file):
+    tree = ast.parse(file.read_text(encoding="utf-8"))
+    return [(node.module.split(".")[1], [alias.name for alias in node.names]) for node in tree.body
+            if isinstance(node, ast.ImportFrom)]
+
+
+def bound_at_top(file):
+    names = set()
+    for node in ast.parse(file.read_text(encoding="utf-8")).body:
+        if isinstance(node, (ast.FunctionDef, ast.ClassDef)):
+            names.add(node.name)
+        elif isinstance(node, ast.Assign):
+            names.add(node.targets[0].id)
+    return names
+
+
 class Language(unittest.TestCase):
     def test_only_python_files(self):
         found = {file.name for file in PACKAGE.iterdir()} - {"__pycache__"}
@@ -83,6 +103,43 @@ class Language(unittest.TestCase):
                 self.assertEqual(0, node.level, name)
                 self.assertRegex(node.module, r"\Ahearsay\.[a-z_]+\Z")
                 self.assertNotIn("*", [alias.name for alias in node.names])
+
+    def test_each_name_is_drawn_from_where_it_is_defined(self):
+        for file in files():
+            for module, names in drawn_from(file):
+                self.assertLessEqual(set(names), bound_at_top(PACKAGE / f"{module}.py"), file.name)
+
+    def test_no_two_files_draw_from_one_another(self):
+        left = {file.stem: {module for module, names in drawn_from(file)} for file in files()}
+        while left:
+            free = [stem for stem, modules in left.items() if not modules & set(left)]
+            self.assertNotEqual([], free, left)
+            left = {stem: modules for stem, modules in left.items() if stem not in free}
+
+    def test_no_local_is_called_like_a_class_or_an_import(self):
+        for file in files():
+            tree = ast.parse(file.read_text(encoding="utf-8"))
+            taken = {name for module, names in drawn_from(file) for name in names}
+            taken |= {node.name for node in ast.walk(tree) if isinstance(node, ast.ClassDef)}
+            for node in ast.walk(tree):
+                if isinstance(node, ast.arg):
+                    self.assertNotIn(node.arg, taken, (file.name, node.lineno))
+                if isinstance(node, ast.Name) and isinstance(node.ctx, ast.Store):
+                    self.assertNotIn(node.id, taken, (file.name, node.lineno))
+
+    def test_values_of_objects(self):
+        taken = {name for kind in (str, int, list, tuple, dict, set, bytes) for name in dir(kind)}
+        free = set("count index title find get join lower upper split strip copy add".split())
+        self.assertEqual(set(), own_values() & (taken - free))
+        self.assertEqual(set(), own_values() & own_methods())
+
+    def test_is_stands_beside_none_true_and_false(self):
+        for name, node in nodes():
+            if isinstance(node, ast.Compare):
+                for kind, other in zip(node.ops, node.comparators):
+                    if isinstance(kind, (ast.Is, ast.IsNot)):
+                        self.assertIsInstance(other, ast.Constant, (name, node.lineno))
+                        self.assertIn(other.value, (None, True, False), (name, node.lineno))
 
     def test_names_of_pythons_own(self):
         others = set(dir(builtins)) - BUILTINS
