@@ -30,5 +30,15 @@ def walk_back(net, tale, spot):
     return bests
 
 
+def first_hearing(tale, firsts):
+    """At each house's place the first turn at which it hears one of the spots that firsts has at theirs, or None."""
+    turns = list(firsts)
+    # What a run takes along was there ahead of the run's end: from the earliest one on, one walk finds all who hear.
+    for start, goal, left, come in sorted(tale[1], key=come_of):
+        if turns[start] is not None and turns[start] <= left and (turns[goal] is None or come < turns[goal]):
+            turns[goal] = come
+    return turns
+
+
 def come_of(run):
     return run[3]

@@ -56,6 +56,23 @@ def is_own(test, ask, *handed):
     test.assertEqual(kept, ask(*handed))
 
 
+def by_trying(net, house, goal, cost):
+    """The least cost over all ways that meet no house twice; None where there is none."""
+    best = None
+    others = [other for other in range(net[0]) if other not in (house, goal)]
+    costs = {path[:2]: cost(path[2]) for path in net[1] if cost(path[2]) is not None}
+    if house == goal:
+        return 0
+    for many in range(len(others) + 1):
+        for between in itertools.permutations(others, many):
+            way = (house,) + between + (goal,)
+            steps = list(zip(way, way[1:]))
+            if all(step in costs for step in steps):
+                total = sum(costs[step] for step in steps)
+                best = total if best is None else min(best, total)
+    return best
+
+
 def due_runs(net, last):
     """For each path with a most the runs that come as late as they may."""
     runs = []
@@ -241,6 +258,8 @@ class World:
             return set()
         if kind == "came":
             return {place for place, tale in enumerate(self.tales) if sign_came(tale, *spec[1:])}
+        if kind == "sign":
+            return {place for place, tale in enumerate(self.tales) if spec[1] in tale[2]}
         if kind == "both":
             return self.where(spec[1]) & self.where(spec[2])
         if kind == "either":
@@ -250,8 +269,21 @@ class World:
         return {place for group in groups if inside.issuperset(group) for place in group}
 
 
+def some_places(world, number):
+    """The places of some sixty tales of a world, others for another number."""
+    step = max(1, len(world.tales) // 60)
+    return range(number % step, len(world.tales), step)
+
+
 def sign_came(tale, name, by=None):
     return any(sign[2] == name and (by is None or sign[1] <= by) for sign in tale[2])
+
+
+def nested(spots, inside):
+    """That the first spot knows that the next one knows and so on."""
+    for house, turn in reversed(spots):
+        inside = ("knows", house, turn, inside)
+    return inside
 
 
 def build(spec):
@@ -268,6 +300,21 @@ def build(spec):
     if kind == "knows":
         return Knows(spec[1], spec[2], build(spec[3]))
     return Shared(list(spec[1]), spec[2], build(spec[3]))
+
+
+def row_of(net, tale, name, houses):
+    """Point 16 over again, by the sentences at each turn."""
+    turns = []
+    for many in range(1, len(houses) + 1):
+        told = None
+        for turn in range(tale[0], -1, -1):
+            sentence = Came(name)
+            for house in houses[:many]:
+                sentence = Knows(house, turn, sentence)
+            if sentence.holds(net, tale):
+                told = turn
+        turns.append(told)
+    return turns
 
 
 def some_houses(throw, houses):

@@ -64,6 +64,11 @@ def bound_at_top(file):
     return names
 
 
+def called(node):
+    """The name that a call calls."""
+    return getattr(node.func, "id", getattr(node.func, "attr", None))
+
+
 class Language(unittest.TestCase):
     def test_only_python_files(self):
         found = {file.name for file in PACKAGE.iterdir()} - {"__pycache__"}
@@ -156,6 +161,51 @@ class Language(unittest.TestCase):
         for name, node in nodes():
             if isinstance(node, ast.Call) and isinstance(node.func, ast.Attribute):
                 self.assertIn(node.func.attr, allowed, (name, node.lineno))
+
+    def test_walked_at_once(self):
+        walks = set("zip enumerate reversed range items keys values".split())
+        takers = set("list tuple dict sorted sum any all enumerate zip min max".split())
+        for file in files():
+            tree = ast.parse(file.read_text(encoding="utf-8"))
+            at_once = {id(node.iter) for node in ast.walk(tree) if isinstance(node, (ast.For, ast.comprehension))}
+            for node in ast.walk(tree):
+                if isinstance(node, ast.Call) and called(node) in takers:
+                    at_once |= {id(part) for part in node.args[:1]}
+            for node in ast.walk(tree):
+                if isinstance(node, ast.Call) and called(node) in walks:
+                    self.assertIn(id(node), at_once, (file.name, node.lineno))
+
+    def test_texts(self):
+        for name, node in nodes():
+            if isinstance(node, ast.Constant) and isinstance(node.value, str):
+                self.assertNotIn("%", node.value, (name, node.lineno))
+            if isinstance(node, ast.FormattedValue):
+                self.assertIsInstance(node.value, ast.Name, (name, node.lineno))
+
+    def test_errors_taken_are_the_programs_own(self):
+        own = {node.name for name, node in nodes() if isinstance(node, ast.ClassDef)}
+        for name, node in nodes():
+            if isinstance(node, ast.ExceptHandler):
+                self.assertIsInstance(node.type, ast.Name, (name, node.lineno))
+                self.assertIn(node.type.id, own, (name, node.lineno))
+            if isinstance(node, ast.Raise):
+                self.assertIn(called(node.exc), own, (name, node.lineno))
+
+    def test_the_top_of_a_file(self):
+        for file in files():
+            names = []
+            for node in ast.parse(file.read_text(encoding="utf-8")).body:
+                if isinstance(node, ast.Expr):
+                    self.assertIsInstance(node.value, ast.Constant, (file.name, node.lineno))
+                elif isinstance(node, ast.Assign):
+                    names.append(node.targets[0].id)
+                    ast.literal_eval(node.value)
+                elif isinstance(node, (ast.FunctionDef, ast.ClassDef)):
+                    names.append(node.name)
+                else:
+                    self.assertIsInstance(node, ast.ImportFrom, (file.name, node.lineno))
+                    names += [alias.name for alias in node.names]
+            self.assertEqual(len(names), len(set(names)), file.name)
 
     def test_plain_names(self):
         for name, node in nodes():

@@ -3,7 +3,7 @@ import unittest
 
 from hearsay.errors import NoNet
 from hearsay.nets import check_net, fewest, sure_times, sure_way
-from tests.helper import GREATEST, LEAST, is_own, leaves_alone, refusal
+from tests.helper import GREATEST, LEAST, by_trying, is_own, leaves_alone, refusal
 
 # Two ways from 0 to 3 (7 against 1 + 2 + 3), a quick path without a most from 0 to 4, none back to 0, and 5 alone.
 NET = (6, [(0, 3, 7), (2, 3, 3), (0, 1, 1), (1, 2, 2), (0, 4, None), (4, 3, 1), (3, 1, 1), (2, 1, 9), (1, 4, None)])
@@ -11,23 +11,6 @@ NET = (6, [(0, 3, 7), (2, 3, 3), (0, 1, 1), (1, 2, 2), (0, 4, None), (4, 3, 1), 
 
 def all_paths(houses, most):
     return [(start, goal, most) for start in range(houses) for goal in range(houses) if start != goal]
-
-
-def by_trying(net, house, goal, cost):
-    """The least cost over all ways that meet no house twice; None where there is none."""
-    best = None
-    others = [other for other in range(net[0]) if other not in (house, goal)]
-    costs = {path[:2]: cost(path[2]) for path in net[1] if cost(path[2]) is not None}
-    if house == goal:
-        return 0
-    for many in range(len(others) + 1):
-        for between in itertools.permutations(others, many):
-            way = (house,) + between + (goal,)
-            steps = list(zip(way, way[1:]))
-            if all(step in costs for step in steps):
-                total = sum(costs[step] for step in steps)
-                best = total if best is None else min(best, total)
-    return best
 
 
 def small_nets():
